@@ -1,0 +1,1 @@
+"""Straylanes: programs in lanes of remainders, some of which stray."""

@@ -1,0 +1,24 @@
+"""The bounds that the document names."""
+
+MAX_LANES = 10
+MAX_MODULUS = 10 ** 6
+MAX_NUMBER = 10 ** 60
+MAX_STEPS = 30
+# Written as a product since LANGUAGE.md (L27) bars exponents above 64.
+MAX_HULL = 10 ** 60 * 10 ** 60
+MAX_LOTS = 252
+MAX_TOLD = 200
+MAX_INPUTS = 2000
+MAX_MIXED = 100
+MAX_FACES = 3000
+MAX_STAGES = 8
+MAX_CHAIN = 40
+MAX_RUNS = 8
+MAX_STOCK = 8
+MAX_PRICE = 999
+MAX_MORE = 200
+MAX_NAMES = 8
+MAX_NAME = 8
+MAX_NEST = 8
+BATCH = 12
+MAX_EDITS = 40

@@ -1,0 +1,169 @@
+"""What of LANGUAGE.md a program can see, and the interface of DOC.md: which names stand in which file."""
+
+import ast
+import builtins
+import inspect
+import re
+import unittest
+from importlib import import_module
+from pathlib import Path
+
+PACKAGE = Path(__file__).resolve().parent.parent / "straylanes"
+FILES = sorted(path for path in PACKAGE.rglob("*") if "__pycache__" not in path.parts)
+TREES = {path.stem: ast.parse(path.read_text(encoding="utf-8")) for path in FILES if path.suffix == ".py"}
+
+INTERFACE = {
+    "machines": {
+        "machine_error": ("value",), "word_error": ("machine", "value"), "stretch_error": ("value",),
+        "rests_of": ("machine", "number"), "agreeing": ("machine", "word", "number"),
+        "straying": ("machine", "word", "number"),
+    },
+}
+
+BUILTINS = set("""len range enumerate zip min max sum abs sorted reversed int str bool list tuple dict set isinstance
+    ord repr any all divmod iter next map ValueError TypeError KeyError IndexError LookupError ZeroDivisionError
+    ArithmeticError OverflowError RuntimeError NotImplementedError AttributeError property""".split())
+METHODS = set("""append clear copy count endswith extend find get index insert isalnum isalpha isdigit islower isspace
+    isupper items join keys ljust lower lstrip partition pop remove replace reverse rfind rjust rpartition rsplit
+    rstrip setdefault split splitlines startswith strip update upper values zfill bit_length isascii removeprefix
+    removesuffix sort""".split())
+LIBRARY = {"math": {"gcd", "lcm", "isqrt", "comb"}, "itertools": {"product", "combinations", "permutations"}}
+BARRED_NAMES = set("""register mro elements open input law version_info with_traceback add_note attrgetter breakpoint
+    compile copyright credits delattr dir eval exec exit gc getattr globals hasattr help id importlib license locals
+    methodcaller os quit setattr super type vars sys""".split())
+BARRED_WORDS = re.compile(r"\b(type|typing|typing_extensions|enum|Enum|IntEnum|StrEnum|Flag|IntFlag|Generic|Protocol|ABC"
+                          r"|ABCMeta|namedtuple|NamedTuple|TypedDict|TYPE_CHECKING|abstractmethod)\b"
+                          r"|dataclass|overload|contextmanager|_wall|_WallAttr|\(type\)|Meta|metaclass=")
+BARRED_NODES = (ast.GeneratorExp, ast.Global, ast.AsyncFunctionDef, ast.Await, ast.Div, ast.MatMult, ast.AnnAssign,
+                ast.Import)
+
+
+def nodes():
+    for stem, tree in TREES.items():
+        for node in ast.walk(tree):
+            yield f"{stem}:{getattr(node, 'lineno', 0)}", node
+
+
+def bound_names():
+    for where, node in nodes():
+        if isinstance(node, (ast.FunctionDef, ast.ClassDef)):
+            yield where, node.name
+        elif isinstance(node, ast.arg):
+            yield where, node.arg
+        elif isinstance(node, ast.Name) and not isinstance(node.ctx, ast.Load):
+            yield where, node.id
+        elif isinstance(node, ast.alias):
+            yield where, node.asname or node.name
+
+
+def imports(tree):
+    return [(node.module, alias.name) for node in tree.body if isinstance(node, ast.ImportFrom) for alias in node.names]
+
+
+def top_names(tree):
+    names = {node.name for node in tree.body if isinstance(node, (ast.FunctionDef, ast.ClassDef))}
+    return names | {node.targets[0].id for node in tree.body if isinstance(node, ast.Assign)}
+
+
+class FilesTest(unittest.TestCase):
+    def test_the_folder_holds_plain_python_files_alone(self):
+        self.assertIn(PACKAGE / "__init__.py", FILES)
+        for path in FILES:
+            self.assertRegex(path.name, r"\A([a-z][a-z0-9_]*|__init__|__main__)\.py\Z")
+            self.assertNotIn(path.stem, dir(builtins))
+
+    def test_signs_and_sizes(self):
+        for path in FILES:
+            text = path.read_text(encoding="utf-8")
+            self.assertRegex(text, r"\A[ -~\n]*\Z", path)
+            self.assertLessEqual(len(text.splitlines()), 399, path)
+            self.assertLessEqual(max(len(row) for row in text.splitlines()), 120, path)
+
+    def test_functions_are_short(self):
+        for where, node in nodes():
+            if isinstance(node, ast.FunctionDef):
+                self.assertLessEqual(node.end_lineno - node.lineno + 1, 40, where)
+
+    def test_barred_words(self):
+        for where, node in nodes():
+            for field in ("id", "attr", "name", "arg", "module", "value"):
+                word = getattr(node, field, None)
+                if isinstance(word, str):
+                    self.assertNotRegex(word, BARRED_WORDS, where)
+
+
+class CodeTest(unittest.TestCase):
+    def test_module_level(self):
+        plain = (ast.ImportFrom, ast.FunctionDef, ast.ClassDef, ast.Assign)
+        for stem, tree in TREES.items():
+            self.assertIsInstance(tree.body[0], ast.Expr, stem + " has no docstring")
+            for node in tree.body[1:]:
+                self.assertIsInstance(node, plain, f"{stem}:{node.lineno}")
+
+    def test_imports_name_what_their_file_defines(self):
+        for stem, tree in TREES.items():
+            for module, name in imports(tree):
+                if module in LIBRARY:
+                    self.assertIn(name, LIBRARY[module], stem)
+                else:
+                    self.assertTrue(module.startswith("straylanes."), stem)
+                    self.assertIn(name, top_names(TREES[module.removeprefix("straylanes.")]), stem)
+
+    def test_no_two_files_import_from_each_other(self):
+        left = {stem: {module.removeprefix("straylanes.") for module, _ in imports(tree)} & set(TREES)
+                for stem, tree in TREES.items()}
+        while left:
+            free = [stem for stem, needs in left.items() if not needs & set(left)]
+            self.assertTrue(free, f"a ring among {sorted(left)}")
+            for stem in free:
+                del left[stem]
+
+    def test_names_are_bound_once_and_plain(self):
+        for where, name in bound_names():
+            self.assertNotIn(name, BARRED_NAMES, where)
+            self.assertNotIn(name, dir(builtins), where)
+            self.assertRegex(name, r"\A([A-Za-z][A-Za-z0-9_]*|_|__[a-z]+__)\Z", where)
+        for stem, tree in TREES.items():
+            heads = {node.name for node in tree.body if isinstance(node, ast.ClassDef)}
+            heads |= {name for _, name in imports(tree)}
+            inner = [node.arg for node in ast.walk(tree) if isinstance(node, ast.arg)]
+            inner += [node.id for node in ast.walk(tree)
+                      if isinstance(node, ast.Name) and isinstance(node.ctx, ast.Store)]
+            self.assertEqual(heads & set(inner), set(), stem)
+
+    def test_builtins_and_methods(self):
+        own = {node.name for _, node in nodes() if isinstance(node, ast.FunctionDef)}
+        for where, node in nodes():
+            if isinstance(node, ast.Name) and node.id in dir(builtins):
+                self.assertIn(node.id, BUILTINS, where)
+            if isinstance(node, ast.Call) and isinstance(node.func, ast.Attribute):
+                self.assertIn(node.func.attr, METHODS | own, where)
+
+    def test_barred_forms(self):
+        for where, node in nodes():
+            self.assertNotIsInstance(node, BARRED_NODES, where)
+            if isinstance(node, ast.Constant):
+                self.assertNotIsInstance(node.value, (float, complex), where)
+            if isinstance(node, ast.BinOp) and isinstance(node.op, ast.Pow):
+                self.assertIsInstance(node.right, ast.Constant, where)
+                self.assertIn(node.right.value, range(65), where)
+            if isinstance(node, ast.Compare) and any(isinstance(op, (ast.Is, ast.IsNot)) for op in node.ops):
+                self.assertIsInstance(node.comparators[0], ast.Constant, where)
+            if isinstance(node, ast.Constant) and isinstance(node.value, str):
+                self.assertNotIn("%", node.value, where)
+
+
+class InterfaceTest(unittest.TestCase):
+    def test_each_function_stands_in_its_file_with_its_arguments(self):
+        for stem, functions in INTERFACE.items():
+            module = import_module("straylanes." + stem)
+            for name, arguments in functions.items():
+                with self.subTest(f"{stem}.{name}"):
+                    function = getattr(module, name)
+                    self.assertTrue(inspect.isfunction(function))
+                    self.assertEqual(function.__module__, "straylanes." + stem)
+                    self.assertEqual(tuple(inspect.signature(function).parameters), arguments)
+
+
+if __name__ == "__main__":
+    unittest.main()
