@@ -58,3 +58,14 @@ class LaneTest(unittest.TestCase):
     def refuse(self, written, function, **named):
         """Check that a call raises the error that is written, as "BadText()"."""
         self.assertEqual(self.outcome(function, named).written(), "raises " + written, repr(named)[:200])
+
+
+def edits_of(text, signs):
+    """Return texts one edit away: a sign left out, doubled, exchanged with the next one, replaced, put in."""
+    edited = {text}
+    for at in range(len(text) + 1):
+        ahead, behind = text[:at], text[at:]
+        edited |= {ahead + behind[1:], ahead + behind[:1] + behind, ahead + behind[1:2] + behind[:1] + behind[2:]}
+        for sign in signs:
+            edited |= {ahead + sign + behind, ahead + sign + behind[1:]}
+    return sorted(edited)

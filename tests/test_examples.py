@@ -5,6 +5,7 @@ import unittest
 from tests.support import LaneTest, Outcome
 
 EXAMPLES = r"""
+# A5
 >>> from straylanes.machines import agreeing, machine_error, rests_of, stretch_error, straying, word_error
 >>> machine = (7, 11, 13)
 >>> [machine_error(value) for value in (machine, (6, 6, 10 ** 6), (), [7], (7,) * 11, (7, 1), (True,), (7, 10 ** 6 + 1))]
@@ -14,17 +15,66 @@ EXAMPLES = r"""
 >>> [stretch_error(value) for value in ((0, 9), (-5, -5), (9, 0), (0,), [0, 9], (0, True), (0, 10 ** 60 + 1))]
 [None, None, 'empty', 'form', 'form', 'form', 'form']
 
+# A6
 >>> rests_of(machine, 100), rests_of(machine, -1), rests_of((4, 6, 4), 10)
 ((2, 1, 9), (6, 10, 12), (2, 4, 2))
 >>> agreeing(machine, (2, None, 4), 100), straying(machine, (2, None, 4), 100), straying(machine, (2, 1, 9), 100), agreeing(machine, (None,) * 3, 100)
 ((0,), (2,), (), ())
+
+# A7
+>>> from straylanes.wordtexts import machine_text, read_machine, read_word, word_text
+>>> machine_text(machine), word_text((3, None, 5)), word_text((None,)), read_machine("6 6 10"), read_word(machine, "3 - 12")
+('7 11 13', '3 - 5', '-', (6, 6, 10), (3, None, 12))
+>>> read_machine("7  11")
+raises BadText()
+>>> read_machine("07 11")
+raises BadText()
+>>> read_word(machine, "3 - 13")
+raises BadText()
+
+# B2
+>>> from straylanes.programs import hulls, inputs_error, program_error, result, run
+>>> square = (("in", -3, 3), ("times", 0, 0), ("is", 2), ("less", 1, 2))
+>>> [program_error(value) for value in (square, (("is", 5),), (), [("is", 5)], (("in", 0, 9), ("sum", 0, 1)), (("in", 9, 0),), (("is", True),))]
+[None, None, 'form', 'form', ('step', 1), ('step', 0), ('step', 0)]
+>>> program_error((("is", 10 ** 60), ("times", 0, 0), ("times", 1, 0)))
+('great', 2)
+>>> [inputs_error(square, value) for value in ((3,), (-3,), (4,), (), [3], (True,))], inputs_error((("is", 5),), ())
+([None, None, ('input', 0), 'form', 'form', 'form'], None)
+
+# B3
+>>> run(square, (3,)), run(square, (-2,)), result(square, (0,)), hulls(square)
+((3, 9, 2, 7), (-2, 4, 2, 2), -2, ((-3, 3), (-9, 9), (2, 2), (-11, 7)))
+>>> run((("in", 0, 9), ("in", 5, 6), ("less", 1, 0)), (9, 5)), hulls((("in", 0, 9), ("in", 5, 6), ("less", 1, 0)))
+((9, 5, -4), ((0, 9), (5, 6), (-4, 6)))
+
+# B5
+>>> from straylanes.runs import lane_words, strayed_words, strayers, strays_error
+>>> machine = (7, 11, 13)
+>>> lane_words(machine, square, (3,)), lane_words((4,), square, (-3,))
+(((3, 3, 3), (2, 9, 9), (2, 2, 2), (0, 7, 7)), ((1,), (1,), (2,), (3,)))
+>>> strayed_words(machine, square, (3,), ((1, 1, 5),)), strayed_words(machine, square, (3,), ((0, 0, 4), (0, 3, 6)))[2:]
+(((3, 3, 3), (2, 5, 9), (2, 2, 2), (0, 3, 7)), ((2, 2, 2), (6, 7, 7)))
+>>> [strays_error(machine, square, value) for value in ((), ((1, 1, 5),), [], ((0, 0, 7),), ((3, 0, 0),), ((0, 4, 0),), ((0, 1, 2), (0, 1, 3)), ((1, 0, 0), (0, 0, 0)))]
+[None, None, 'form', ('stray', 0), ('stray', 0), ('stray', 0), ('order', 1), ('order', 1)]
+>>> strayers(((0, 1, 2), (0, 3, 0), (2, 0, 1))), strayers(())
+((0, 2), ())
+
+# B6
+>>> from straylanes.programtexts import program_text, read_program
+>>> program_text(square), read_program("in 0 9; is 3; sum 0 1"), read_program("is -5")
+('in -3 3; times 0 0; is 2; less 1 2', (('in', 0, 9), ('is', 3), ('sum', 0, 1)), (('is', -5),))
+>>> read_program("in 0 9; sum 0 1")
+raises BadText()
+>>> read_program("is 5;is 6")
+raises BadText()
 """
 
 
 class ExamplesTest(LaneTest):
     def test_each_comes_to_what_is_told(self):
         names, checked = {}, 0
-        rows = [row for row in EXAMPLES.splitlines() if row] + [">>> "]
+        rows = [row for row in EXAMPLES.splitlines() if row and not row.startswith("#")] + [">>> "]
         for row, told in zip(rows, rows[1:]):
             source = row.removeprefix(">>> ")
             if source == row:

@@ -18,6 +18,19 @@ INTERFACE = {
         "rests_of": ("machine", "number"), "agreeing": ("machine", "word", "number"),
         "straying": ("machine", "word", "number"),
     },
+    "wordtexts": {
+        "machine_text": ("machine",), "read_machine": ("value",), "word_text": ("word",),
+        "read_word": ("machine", "value"),
+    },
+    "programs": {
+        "program_error": ("value",), "inputs_error": ("program", "value"), "run": ("program", "inputs"),
+        "result": ("program", "inputs"), "hulls": ("program",),
+    },
+    "runs": {
+        "lane_words": ("machine", "program", "inputs"), "strays_error": ("machine", "program", "value"),
+        "strayed_words": ("machine", "program", "inputs", "strays"), "strayers": ("strays",),
+    },
+    "programtexts": {"program_text": ("program",), "read_program": ("value",)},
 }
 
 BUILTINS = set("""len range enumerate zip min max sum abs sorted reversed int str bool list tuple dict set isinstance
@@ -31,8 +44,8 @@ LIBRARY = {"math": {"gcd", "lcm", "isqrt", "comb"}, "itertools": {"product", "co
 BARRED_NAMES = set("""register mro elements open input law version_info with_traceback add_note attrgetter breakpoint
     compile copyright credits delattr dir eval exec exit gc getattr globals hasattr help id importlib license locals
     methodcaller os quit setattr super type vars sys""".split())
-BARRED_WORDS = re.compile(r"\b(type|typing|typing_extensions|enum|Enum|IntEnum|StrEnum|Flag|IntFlag|Generic|Protocol|ABC"
-                          r"|ABCMeta|namedtuple|NamedTuple|TypedDict|TYPE_CHECKING|abstractmethod)\b"
+BARRED_WORDS = re.compile(r"\b(type|typing|typing_extensions|enum|Enum|IntEnum|StrEnum|Flag|IntFlag|Generic|Protocol"
+                          r"|ABC|ABCMeta|namedtuple|NamedTuple|TypedDict|TYPE_CHECKING|abstractmethod)\b"
                           r"|dataclass|overload|contextmanager|_wall|_WallAttr|\(type\)|Meta|metaclass=")
 BARRED_NODES = (ast.GeneratorExp, ast.Global, ast.AsyncFunctionDef, ast.Await, ast.Div, ast.MatMult, ast.AnnAssign,
                 ast.Import)

@@ -103,7 +103,8 @@ class StretchErrorTest(LaneTest):
             self.assert_same(self.tell(stretch_error, value=value), None)
 
     def test_form(self):
-        values = (None, True, 0, "", "0 9", "09", (), [], {}, [0, 9], {0: 9, 1: 9}, (0,), (0, 5, 9), (0, 0, 0), ((0, 9),),
+        values = (None, True, 0, "", "0 9", "09", (), [], {}, [0, 9], {0: 9, 1: 9}, (0,), (0, 5, 9), (0, 0, 0),
+                  ((0, 9),),
                   ((0, 9), (0, 9)), ((0,), (9,)), ([0], [9]), ("0", "9"), ("0", 9), (0, "9"), (None, 9), (0, None),
                   (None, None), ({}, {}))
         for value in values:
