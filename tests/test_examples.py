@@ -68,6 +68,61 @@ raises BadText()
 raises BadText()
 >>> read_program("is 5;is 6")
 raises BadText()
+
+# C2
+>>> from straylanes.spans import clashes, numbers_of, same_lanes, span_of
+>>> machine, mixed = (7, 11, 13), (4, 6, 9)
+>>> span_of(machine, (0, 2)), span_of(machine, ()), span_of(mixed, (0, 1)), span_of(mixed, (0, 1, 2))
+(91, 1, 12, 36)
+>>> same_lanes(machine, 80, 3), same_lanes(machine, -5, -5), same_lanes(mixed, 1, 19), same_lanes(mixed, 0, 5)
+((0, 1), (0, 1, 2), (1, 2), ())
+
+# C3
+>>> clashes(mixed, (1, 3, 0)), clashes(mixed, (1, 2, 0)), clashes(mixed, (1, None, 0)), clashes((5, 5), (1, 2))
+((), ((0, 1), (1, 2)), (), ((0, 1),))
+
+# C4
+>>> numbers_of(mixed, (1, 3, 0), (0, 100)), numbers_of(machine, (3, None, 5), (-100, 100)), numbers_of(machine, (None, None, None), (2, 4))
+((9, 36, 3), (-60, 91, 2), (2, 1, 3))
+>>> numbers_of(machine, (3, None, 5), (32, 100)), numbers_of(machine, (6, 10, 12), (-1, 10 ** 60))[:2]
+(None, (-1, 1001))
+>>> numbers_of(mixed, (1, 2, 0), (0, 3))
+raises Clash((0, 1))
+
+# D2
+>>> from straylanes.books import book_error, guard_error, is_let, lots_of
+>>> machine, pairs = (7, 11, 13), ((0, 1), (2,))
+>>> [book_error(machine, value) for value in (1, 3, 4, True, (), ((0,), (0, 1)), ((0,), (3,)), ((1,), (0,)), ((0,), (0,)), ([0],), ((1, 0),))]
+[None, None, 'form', 'form', 'form', None, ('lot', 1), ('order', 1), ('order', 1), ('lot', 0), ('lot', 0)]
+>>> [is_let(machine, 2, (0, 2)), is_let(machine, 1, (0, 2)), is_let(machine, pairs, (1,)), is_let(machine, pairs, (0, 2)), is_let(machine, 0, ())]
+[True, False, True, False, True]
+>>> lots_of(machine, 1), lots_of(machine, 0), lots_of(machine, ((0,), (0, 1), (2,))), lots_of(machine, ((),))
+(((0,), (1,), (2,)), ((),), ((0, 1), (2,)), ((),))
+>>> [guard_error(machine, value) for value in ((1, pairs, 0), (1, 1), (1, 9, 0), (0, ((0,), (3,)), [0]))]
+[None, 'form', (1, 'form'), (1, ('lot', 1))]
+
+# D3
+>>> from straylanes.guards import bears, reach, strength, weakest
+>>> [reach(machine, guard) for guard in ((0, 0, 0), (0, 1, 0), (1, 0, 0), (1, 1, 0), (0, 0, 1), (0, 1, 1), (1, 1, 1))]
+[1001, 77, 7, 7, 77, 7, 1]
+>>> reach(machine, (((0,), (1,)), 0, 0)), reach((4, 6, 9), (0, 1, 0)), reach((4, 6, 9), (0, 0, 0)), weakest(machine, (0, 1, 0))
+(13, 12, 36, ((), (2,), ()))
+>>> bears(machine, 7, (1, 1, 0)), bears(machine, 8, (1, 1, 0)), bears(machine, 77, (0, 1, 0))
+(True, False, True)
+
+# D4
+>>> [strength(machine, many) for many in (1, 2, 7, 8, 1001, 1002)], strength((5, 5, 5, 5, 5), 5), strength((2, 3, 5, 7, 11), 6)
+([3, 1, 1, 0, 0, -1], 2, 1)
+
+# D5
+>>> from straylanes.mixups import mix_up, mix_up_holds
+>>> values = ((0, 7, (0, 7, 0)), (7, 0, (0, 7, 0)), (0, 7, (0, 0, 0)), (0, 7, (0, 7, 7)), (0, 7, (0, 7, None)), (0, 0, (0, 0, 0)), (0, 14, (0, 3, 0)), [0, 7, (0, 7, 0)])
+>>> [mix_up_holds(machine, (0, 7), (1, 1, 0), value) for value in values]
+[True, True, False, False, False, False, False, False]
+>>> mix_up_holds(machine, (0, 7), (0, 1, 1), (0, 7, (0, 0, None))), mix_up(machine, (0, 6), (1, 1, 0))
+(True, None)
+>>> mix_up_holds(machine, (-4, 4), (1, 1, 0), mix_up(machine, (-4, 4), (1, 1, 0)))
+True
 """
 
 

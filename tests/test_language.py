@@ -31,6 +31,21 @@ INTERFACE = {
         "strayed_words": ("machine", "program", "inputs", "strays"), "strayers": ("strays",),
     },
     "programtexts": {"program_text": ("program",), "read_program": ("value",)},
+    "spans": {
+        "span_of": ("machine", "lanes"), "same_lanes": ("machine", "one", "other"), "clashes": ("machine", "word"),
+        "numbers_of": ("machine", "word", "stretch"),
+    },
+    "books": {
+        "book_error": ("machine", "value"), "is_let": ("machine", "book", "lanes"), "lots_of": ("machine", "book"),
+        "guard_error": ("machine", "value"),
+    },
+    "guards": {
+        "reach": ("machine", "guard"), "bears": ("machine", "many", "guard"), "weakest": ("machine", "guard"),
+        "strength": ("machine", "many"),
+    },
+    "mixups": {
+        "mix_up": ("machine", "stretch", "guard"), "mix_up_holds": ("machine", "stretch", "guard", "value"),
+    },
 }
 
 BUILTINS = set("""len range enumerate zip min max sum abs sorted reversed int str bool list tuple dict set isinstance

@@ -1,0 +1,70 @@
+"""What a machine bears: how many numbers are told apart, whatever lanes a guard lets stray and be silent."""
+
+from math import lcm
+
+from straylanes.families import NO_LANES, has, lanes_of, masks_in, widened
+
+
+def reach(machine, guard):
+    """Return the least span of the lanes outside of a choice for guard."""
+    spans = spans_outside(machine)
+    _, _, lost = lost_families(machine, guard)
+    return min([spans[mask] for mask in masks_in(lost)])
+
+
+def bears(machine, many, guard):
+    """Tell whether machine bears many numbers with guard."""
+    return reach(machine, guard) >= many
+
+
+def weakest(machine, guard):
+    """Return a choice for guard outside of which the lanes have the least span."""
+    _, seen, still = guard
+    lane_count = len(machine)
+    spans = spans_outside(machine)
+    by_one, by_two, by_three = lost_families(machine, guard)
+    lost = min(masks_in(by_three), key=lambda mask: spans[mask])
+    third = part_of(lost, by_two, widened(lane_count, NO_LANES, still))
+    strayed = lost ^ third
+    other = part_of(strayed, by_one, by_one | widened(lane_count, NO_LANES, seen))
+    return (lanes_of(strayed ^ other), lanes_of(other), lanes_of(third))
+
+
+def strength(machine, many):
+    """Return the greatest t for which machine bears many numbers with the guard (t, t, 0), -1 if there is none."""
+    least, lane_count = least_spans(machine), len(machine)
+    borne = [t for t in range(lane_count + 1) if least[max(0, lane_count - 2 * t)] >= many]
+    return max(borne, default=-1)
+
+
+def lost_families(machine, guard):
+    """Return three families: what the first lot of a choice takes away, the first two, and all three."""
+    right, seen, still = guard
+    lane_count = len(machine)
+    by_one = widened(lane_count, NO_LANES, right)
+    by_two = widened(lane_count, by_one, right) | widened(lane_count, by_one, seen)
+    return (by_one, by_two, widened(lane_count, by_two, still))
+
+
+def part_of(mask, others, parts):
+    """Return the mask of a lot of the family parts within mask that leaves a lot of the family others."""
+    return [part for part in masks_in(parts) if part & mask == part and has(others, mask ^ part)][0]
+
+
+def spans_outside(machine):
+    """Return the list, at the place of each mask, of the span of the lanes that it does not have."""
+    spans = [1]
+    for modulus in machine:
+        spans = [lcm(span, modulus) for span in spans] + spans
+    return spans
+
+
+def least_spans(machine):
+    """Return a dict with the least span of any k lanes, for each k from 0 to all of them."""
+    spans = [(0, 1)]
+    for modulus in machine:
+        spans = spans + [(many + 1, lcm(span, modulus)) for many, span in spans]
+    least = {}
+    for many, span in spans:
+        least[many] = min(span, least.get(many, span))
+    return least
