@@ -123,6 +123,84 @@ raises Clash((0, 1))
 (True, None)
 >>> mix_up_holds(machine, (-4, 4), (1, 1, 0), mix_up(machine, (-4, 4), (1, 1, 0)))
 True
+
+# E2
+>>> from straylanes.machines import rests_of
+>>> from straylanes.tellings import candidates, mended, nearest, suspects, tell
+>>> machine = (7, 11, 13)
+>>> candidates(machine, (5, 9, 5), (0, 6), 1), tell(machine, (5, 9, 5), (0, 6), 1), mended(machine, (5, 9, 5), (0, 6), 1)
+((5,), 5, (5, 5, 5))
+>>> [candidates(machine, (2, 1, 9), (0, 60), book) for book in (1, ((1,),), ((2,),), 0)], mended(machine, (2, 1, 9), (0, 60), ((1,),))
+([(9, 23), (9,), (23,), ()], (2, 9, 9))
+>>> candidates(machine, (2, None, 9), (0, 200), 0), tell(machine, (2, None, 9), (0, 60), 0), candidates(machine, (6, 2, 4), (-50, 50), 1)
+((9, 100, 191), 9, (-22, -9, 13))
+>>> tell(machine, (6, 2, 4), (-50, 50), 1)
+raises Unsure((-22, -9))
+>>> tell(machine, (2, 1, 9), (0, 60), 0)
+raises Strayed()
+>>> candidates(machine, (None, None, None), (0, 200), 0)
+raises TooMany(200)
+>>> mended(machine, (None, None, None), (0, 200), 0)
+raises Unsure((0, 1))
+>>> great = (999983, 999979, 999961, 999959)
+>>> far = rests_of(great, 123456789012)
+>>> tell(great, far[:2] + (0,) + far[3:], (0, 999900000000), 1)
+123456789012
+
+# E3
+>>> nearest(machine, (2, 1, 9), (0, 60)), nearest(machine, (2, 1, 9), (0, 200)), nearest(machine, (6, 2, 4), (-50, 50)), nearest(machine, (None, None, None), (3, 9))
+((1, 9), (0, 100), (1, -22), (0, 3))
+>>> suspects(machine, (2, 1, 9), (0, 60), 1), suspects(machine, (2, 1, 9), (0, 60), ((2,),)), suspects(machine, (6, 2, 4), (-50, 50), ((0,), (2,)))
+(('agrees', 'open', 'open'), ('agrees', 'agrees', 'strays'), ('open', 'agrees', 'open'))
+>>> suspects(machine, (2, None, 9), (0, 10 ** 60), 0), suspects(machine, (None, None, None), (-9, 9), 3)
+(('agrees', 'silent', 'agrees'), ('silent', 'silent', 'silent'))
+>>> suspects(machine, (2, 1, 9), (0, 60), 0)
+raises Strayed()
+
+# F2
+>>> from straylanes.euclid import euclid_rows, euclid_tell
+>>> euclid_rows(7, 5), euclid_rows(5, 0), euclid_rows(1, 0)
+(((7, 0), (5, 1), (2, -1), (1, 3), (0, -7)), ((5, 0), (0, 1)), ((1, 0), (0, 1)))
+>>> euclid_rows(1001, 185)
+((1001, 0), (185, 1), (76, -5), (33, 11), (10, -27), (3, 92), (1, -303), (0, 1001))
+
+# F4
+>>> machine = (7, 11, 13)
+>>> euclid_tell(machine, (3, 9, 3), (0, 4)), euclid_tell(machine, (3, 3, 9), (0, 4)), euclid_tell(machine, (3, 3, 9), (2, 4))
+((3, (1,)), None, (3, (2,)))
+>>> euclid_tell(machine, (3, None, 3), (0, 4)), euclid_tell(machine, (3, None, 9), (0, 4)), euclid_tell(machine, (0, 0, 0), (5, 5))
+((3, ()), None, (5, (0, 1, 2)))
+>>> euclid_tell((6, 4, 5), (1, None, 2), (0, 9))
+(7, ())
+>>> euclid_tell((6, 4, 5), (1, 1, 2), (0, 9))
+raises Unfit()
+>>> euclid_tell(machine, (None, None, None), (5, 5))
+raises Unfit()
+>>> five = (101, 103, 107, 109, 113)
+>>> euclid_tell(five, (5, 9, 42, 42, 42), (0, 60)), euclid_tell(five, (5, 42, 9, 42, 42), (0, 60))
+((42, (0, 1)), None)
+
+# G2
+>>> from straylanes.works import work_error, work_results, work_told
+>>> plus, minus = (("in", 0, 3), ("in", 0, 3), ("sum", 0, 1)), (("in", 0, 5), ("is", 1), ("less", 0, 1))
+>>> work = ((plus, (("value", 2), ("value", 3)), (0, 6)), (minus, (("stage", 0),), (-1, 5)))
+>>> work_error(work), work_results(work)
+(None, (5, 4))
+>>> work_error(()), work_error(list(work)), work_error(work[1:]), work_error(((plus, (("value", 2),), (0, 6)),)), work_error(((plus, (("value", 2), ("value", True)), (0, 6)),))
+('form', 'form', ('stage', 0), ('stage', 0), ('stage', 0))
+>>> work_error(((plus, (("value", 2), ("value", 4)), (0, 6)),)), work_error(((plus, (("value", 2), ("value", 3)), (0, 4)),)), work_error((work[0], (minus, (("stage", 0),), (5, 9))))
+(('feed', 0), ('out', 0), ('out', 1))
+
+# G3
+>>> machine = (7, 11, 13)
+>>> work_told(machine, work, (((1, 2, 0),), ((2, 0, 9),)), 1), work_told(machine, work, ((), ()), 0), work_told(machine, work, (((0, 2, 0), (1, 2, 0)), ()), 1)
+((5, 4), (5, 4), (0, -1))
+>>> work_told(machine, work, (((0, 2, 0), (1, 2, 1)), ()), 1)
+raises Strayed()
+>>> work_told(machine, work, (((0, 2, 6), (1, 2, 6)), ()), 1)
+raises Unfit()
+>>> work_told(machine, work, (((1, 2, 0),), ()), 2)
+raises Unsure((0, 5))
 """
 
 

@@ -46,6 +46,15 @@ INTERFACE = {
     "mixups": {
         "mix_up": ("machine", "stretch", "guard"), "mix_up_holds": ("machine", "stretch", "guard", "value"),
     },
+    "tellings": {
+        "candidates": ("machine", "word", "stretch", "book"), "tell": ("machine", "word", "stretch", "book"),
+        "mended": ("machine", "word", "stretch", "book"), "nearest": ("machine", "word", "stretch"),
+        "suspects": ("machine", "word", "stretch", "book"),
+    },
+    "euclid": {"euclid_rows": ("a", "b"), "euclid_tell": ("machine", "word", "stretch")},
+    "works": {
+        "work_error": ("value",), "work_results": ("work",), "work_told": ("machine", "work", "strays", "book"),
+    },
 }
 
 BUILTINS = set("""len range enumerate zip min max sum abs sorted reversed int str bool list tuple dict set isinstance
