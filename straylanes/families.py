@@ -29,6 +29,20 @@ def masks_in(family):
     return [mask for mask in range(family.bit_length()) if has(family, mask)]
 
 
+def part_of(mask, others, parts):
+    """Return the mask of a lot of the family parts within mask that leaves a lot of the family others."""
+    return [part for part in masks_in(parts) if part & mask == part and has(others, mask ^ part)][0]
+
+
+def greatest_masks(lane_count, family):
+    """Return the list of the masks of the lots of family that lie within no greater one of it."""
+    within = 0
+    for lane, without in enumerate(lots_without(lane_count)):
+        # What the lane is taken from stands 1 << lane below what has it.
+        within = within | ((family >> (1 << lane)) & without)
+    return masks_in(family & ~within)
+
+
 def widened(lane_count, family, book):
     """Return the family of what a lot of family and a lot that book lets have together, of so many lanes."""
     free = lots_without(lane_count)

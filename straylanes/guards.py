@@ -2,7 +2,7 @@
 
 from math import lcm
 
-from straylanes.families import NO_LANES, has, lanes_of, masks_in, widened
+from straylanes.families import NO_LANES, lanes_of, masks_in, part_of, widened
 
 
 def reach(machine, guard):
@@ -32,7 +32,12 @@ def weakest(machine, guard):
 
 def strength(machine, many):
     """Return the greatest t for which machine bears many numbers with the guard (t, t, 0), -1 if there is none."""
-    least, lane_count = least_spans(machine), len(machine)
+    return strength_by(least_spans(machine), many)
+
+
+def strength_by(least, many):
+    """Return what strength tells of the machine of which least is what least_spans tells."""
+    lane_count = max(least)
     borne = [t for t in range(lane_count + 1) if least[max(0, lane_count - 2 * t)] >= many]
     return max(borne, default=-1)
 
@@ -44,11 +49,6 @@ def lost_families(machine, guard):
     by_one = widened(lane_count, NO_LANES, right)
     by_two = widened(lane_count, by_one, right) | widened(lane_count, by_one, seen)
     return (by_one, by_two, widened(lane_count, by_two, still))
-
-
-def part_of(mask, others, parts):
-    """Return the mask of a lot of the family parts within mask that leaves a lot of the family others."""
-    return [part for part in masks_in(parts) if part & mask == part and has(others, mask ^ part)][0]
 
 
 def spans_outside(machine):

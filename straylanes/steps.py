@@ -55,3 +55,12 @@ def reckoned(step, ahead):
     if word == "less":
         return ahead[j] - ahead[k]
     return ahead[j] * ahead[k]
+
+
+def reckoned_column(step, one, other):
+    """Return the list of what a step that reckons makes of each two that stand at one place of one and other."""
+    if step[0] == "sum":
+        return [a + b for a, b in zip(one, other)]
+    if step[0] == "less":
+        return [a - b for a, b in zip(one, other)]
+    return [a * b for a, b in zip(one, other)]

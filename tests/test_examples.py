@@ -201,6 +201,79 @@ raises Strayed()
 raises Unfit()
 >>> work_told(machine, work, (((1, 2, 0),), ()), 2)
 raises Unsure((0, 5))
+
+# G5
+>>> from straylanes.paces import fewest, stops, stops_hold
+>>> chain = (5, 50, 7, 3, 2000, 6, 1)
+>>> stops(machine, chain, 2), fewest(machine, chain, 2), fewest(machine, (7,) * 9, 3), fewest(machine, (1, 1), 1)
+((0, 6), 2, 3, 1)
+>>> [stops_hold(machine, chain, 2, value) for value in ((0, 6), (0, 2, 6), (0, 2, 3, 6), (6,), (0, 2), (0, 1, 6), [0, 6], (False, 6))]
+[True, True, True, False, False, False, False, False]
+>>> stops(machine, (5, 50), 9)
+raises NoPlan()
+
+# H2
+>>> from straylanes.results import mixed_runs, mixed_runs_hold, results, told_for_all
+>>> square, six = (("in", 0, 2), ("times", 0, 0)), (("in", 0, 1), ("is", 6), ("times", 0, 1))
+>>> results(square), results(six), results((("is", 5),)), results((("in", -2, 2), ("times", 0, 0)))
+((0, 1, 4), (0, 6), (5,), (0, 1, 4))
+>>> told_for_all((7, 11, 13), square, 1), told_for_all((7, 11, 13), square, 2), told_for_all((2, 3, 5), square, 1), told_for_all((4, 5, 7), six, 1)
+(True, False, False, True)
+>>> results((("in", 0, 2000),))
+raises TooMany(2000)
+
+# H3
+>>> paper = (((0,), ((1, 1, 1),)), ((2,), ((2, 1, 0),)))
+>>> mixed_runs((7, 11, 13), square, 1), mixed_runs_hold((2, 3, 5), square, 1, mixed_runs((2, 3, 5), square, 1)), mixed_runs_hold((2, 3, 5), square, 1, paper)
+(None, True, True)
+>>> mixed_runs_hold((2, 3, 5), square, 0, paper), mixed_runs_hold((2, 3, 5), square, ((1,),), paper), mixed_runs_hold((2, 3, 5), square, 1, (paper[0], ((2,), ()))), mixed_runs_hold((2, 3, 5), square, 1, (paper[0], paper[0]))
+(False, False, False, False)
+
+# H4
+>>> from straylanes.units import faces, told_from, unit_runs
+>>> even = (("in", 0, 1), ("is", 0), ("is", 2), ("times", 1, 2), ("sum", 0, 3))
+>>> faces((4, 6), even, (0,), 0, (1,)), faces((4, 6), even, (1,), 0, (1,)), faces((4, 6), even, (0,), 1, (1,)), faces((4, 6), even, (1,), 1, ())
+((0, 2), (1, 3), (0, 2, 4), (1,))
+>>> faces((2, 3, 5), square, (0,), 2, (0,)), faces((2, 3, 5), square, (0,), 1, (0,)), faces((2, 3, 5), square, (0,), 1, (0, 1))
+((0, 1, 4), (0, 1), (0, 1, 2))
+>>> faces((7, 11, 13), even, (0,), 2, (0, 1, 2, 3))
+raises TooMany(3000)
+
+# H5
+>>> told_for_all((4, 6), even, 2), told_from((4, 6), even, 2, (1,)), told_from((4, 6), even, 1, (3,)), told_from((4, 6), even, 2, ())
+(False, True, False, True)
+>>> unit_runs((4, 6), even, 2, (1,)), mixed_runs_hold((4, 6), even, 1, (((0,), ((0, 3, 1),)), ((1,), ((1, 3, 5),))))
+(None, True)
+>>> mixed_runs_hold((4, 6), even, 1, unit_runs((4, 6), even, 1, (3,)))
+True
+
+# I2
+>>> from straylanes.ledgers import fitting_lots, ledger_error, sure_numbers, sure_sound, sure_strayers
+>>> machine = (7, 11, 13)
+>>> first, second, third = ((6, 4, 7), (0, 60)), ((3, 5, 6), (0, 60)), ((3, 0, 10), (0, 60))
+>>> [ledger_error(machine, value) for value in ((first, second), (), [first], (first,) * 9, (first, third[0]), (((6, 4), (0, 60)),), (first, ((6, 4, 7), (60, 0))))]
+[None, 'form', 'form', 'form', ('run', 1), ('run', 0), ('run', 1)]
+
+# I3
+>>> fitting_lots(machine, (first,), 1), fitting_lots(machine, (first, second), 1), fitting_lots(machine, (first, second, third), 1)
+(((0,), (1,), (2,)), ((1,), (2,)), ((1,),))
+>>> fitting_lots(machine, (first,), 0), fitting_lots(machine, (third, first), ((0, 1), (2,))), fitting_lots(machine, (((None, None, None), (5, 9)),), 0)
+((), ((0, 1),), ((),))
+
+# I4
+>>> sure_numbers(machine, (first, second), 1), sure_numbers(machine, (second, third, first), 1)
+((None, None), (45, 10, 20))
+>>> sure_strayers(machine, (first, second), 1), sure_sound(machine, (first, second), 1)
+((), (0,))
+>>> sure_strayers(machine, (first, second, third), 1), sure_sound(machine, (first, second, third), 1)
+((1,), (0, 2))
+>>> plain = ((6, 9, 7), (0, 60))
+>>> sure_numbers(machine, (plain,), 1), sure_strayers(machine, (plain,), 1), sure_sound(machine, (plain,), 1), sure_sound(machine, (plain, second), 1)
+((20,), (), (0, 1, 2), (0,))
+>>> sure_numbers(machine, (((6, None, 7), (0, 200)),), 0), sure_numbers(machine, (((6, None, 7), (0, 90)),), 0)
+((None,), (20,))
+>>> sure_numbers(machine, (first,), 0)
+raises NoLot()
 """
 
 

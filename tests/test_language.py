@@ -55,6 +55,23 @@ INTERFACE = {
     "works": {
         "work_error": ("value",), "work_results": ("work",), "work_told": ("machine", "work", "strays", "book"),
     },
+    "paces": {
+        "stops": ("machine", "chain", "w"), "fewest": ("machine", "chain", "w"),
+        "stops_hold": ("machine", "chain", "w", "value"),
+    },
+    "results": {
+        "results": ("program",), "told_for_all": ("machine", "program", "book"),
+        "mixed_runs": ("machine", "program", "book"), "mixed_runs_hold": ("machine", "program", "book", "value"),
+    },
+    "units": {
+        "faces": ("machine", "program", "inputs", "lane", "units"),
+        "told_from": ("machine", "program", "book", "units"), "unit_runs": ("machine", "program", "book", "units"),
+    },
+    "ledgers": {
+        "ledger_error": ("machine", "value"), "fitting_lots": ("machine", "ledger", "book"),
+        "sure_numbers": ("machine", "ledger", "book"), "sure_strayers": ("machine", "ledger", "book"),
+        "sure_sound": ("machine", "ledger", "book"),
+    },
 }
 
 BUILTINS = set("""len range enumerate zip min max sum abs sorted reversed int str bool list tuple dict set isinstance

@@ -10,9 +10,13 @@ from random import Random
 from straylanes.errors import LaneError
 from straylanes.euclid import euclid_tell
 from straylanes.guards import bears, reach, strength, weakest
+from straylanes.ledgers import fitting_lots, sure_numbers, sure_sound, sure_strayers
 from straylanes.machines import rests_of
 from straylanes.mixups import mix_up
+from straylanes.paces import fewest, stops, stops_hold
+from straylanes.results import mixed_runs, results, told_for_all
 from straylanes.tellings import candidates, nearest, suspects, tell
+from straylanes.units import faces, told_from, unit_runs
 from straylanes.works import work_told
 from tests.lanesamples import FIVES, GREAT, GREAT_PRIMES, MOST, TOP, book_by, guard_by, word_by
 
@@ -73,6 +77,48 @@ class QuicknessTest(unittest.TestCase):
         for _ in range(10):
             self.assertEqual(work_told(GREAT_PRIMES, (stage,) * 8, strays, 2), (10 ** 19 + 1,) * 8)
         self.within(10)
+
+    def test_chains_of_forty_items(self):
+        for machine in TEN:
+            for turn in range(20):
+                chain = tuple(1 + (turn * place) % 30 for place in range(39)) + (1,)
+                row = stops(machine, chain, 1 + turn)
+                self.assertEqual(fewest(machine, chain, 1 + turn), len(row))
+                self.assertTrue(stops_hold(machine, chain, 1 + turn, row))
+        self.within(10)
+
+    def test_programs_of_2000_inputs(self):
+        many = (("in", 0, 1999),) + tuple(("sum", place, 0) for place in range(29))
+        wide = (("in", 0, 1999), ("is", 10 ** 50 + 1), ("times", 0, 1), ("times", 2, 2))
+        for program in (many, wide, tuple(("in", 0, 1) for _ in range(10)) + (("times", 0, 9),)):
+            for machine in TEN:
+                for book in (0, 1, 2, 3, FIVES, MOST, ((0, 1), (2, 3, 4))):
+                    self.assertIs(told_for_all(machine, program, book), mixed_runs(machine, program, book) is None)
+            self.assertLessEqual(len(results(program)), 2000)
+        self.within(20)
+
+    def test_units_of_ten_lanes(self):
+        steps = (("in", 0, 3), ("in", 0, 24), ("is", 0), ("times", 1, 2), ("is", 4), ("is", 7), ("is", 9), ("sum", 5, 6))
+        steps += tuple(("sum", place, 5 + place % 3) for place in range(7, 26))
+        program = steps + (("times", 26, 4), ("sum", 27, 0), ("sum", 28, 3))
+        machine = (52, 48, 44, 40, 36, 32, 28, 24, 20, 16)
+        for book in (1, 2, 5, FIVES, MOST):
+            # Whatever the steps 5 and 6 put out, a multiple of 4 comes to the input.
+            self.assertTrue(told_from(machine, program, book, (5, 6)))
+            self.assertIsNone(unit_runs(machine, program, book, (5, 6)))
+        for lane in range(10):
+            self.assertEqual(len(faces(machine, program, (1, 0), lane, (5, 6))), machine[lane] // 4)
+        self.within(20)
+
+    def test_ledgers_of_eight_runs(self):
+        chance = Random(103)
+        for machine in TEN:
+            for high in (1000, 10 ** 30, TOP):
+                runs = tuple((word_by(chance, machine, chance.randint(0, high)), (0, high)) for _ in range(8))
+                for book in (5, 2, FIVES, MOST, 8):
+                    for function in (fitting_lots, sure_numbers, sure_strayers, sure_sound):
+                        self.tells(function, machine, runs, book)
+        self.within(20)
 
 
 if __name__ == "__main__":
