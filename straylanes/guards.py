@@ -37,9 +37,12 @@ def strength(machine, many):
 
 def strength_by(least, many):
     """Return what strength tells of the machine of which least is what least_spans tells."""
-    lane_count = max(least)
-    borne = [t for t in range(lane_count + 1) if least[max(0, lane_count - 2 * t)] >= many]
-    return max(borne, default=-1)
+    return max([t for t in range(len(least)) if span_left(least, t) >= many], default=-1)
+
+
+def span_left(least, t):
+    """Return the least span of the lanes of which least is what least_spans tells, any 2 * t of them left out."""
+    return least[max(0, len(least) - 1 - 2 * t)]
 
 
 def lost_families(machine, guard):
@@ -60,11 +63,15 @@ def spans_outside(machine):
 
 
 def least_spans(machine):
-    """Return a dict with the least span of any k lanes, for each k from 0 to all of them."""
-    spans = [(0, 1)]
+    """Return the list, at each place k, of the least span of any k lanes."""
+    return [spans[0] for spans in spans_by_count(machine)]
+
+
+def spans_by_count(machine):
+    """Return the list, at each place k, of the ascending list of the unlike spans of any k lanes."""
+    found = [[1]]
     for modulus in machine:
-        spans = spans + [(many + 1, lcm(span, modulus)) for many, span in spans]
-    least = {}
-    for many, span in spans:
-        least[many] = min(span, least.get(many, span))
-    return least
+        wider = [sorted({lcm(span, modulus) for span in spans}) for spans in found]
+        # k lanes with this one are k - 1 lanes ahead of it, and this one.
+        found = found[:1] + [sorted(set(with_it + without)) for with_it, without in zip(wider, found[1:] + [[]])]
+    return found

@@ -15,12 +15,18 @@ def parts_of(value, between):
 
 def read_integer(text):
     """Return the integer of which text is the decimal; raise BadText() if it is none, or has too many figures."""
-    figures = text.removeprefix("-")
-    # isdigit alone would take figures of other scripts.
-    if len(figures) > MAX_FIGURES or not (figures.isascii() and figures.isdigit()):
-        raise BadText()
-    integer = int(text)
-    # Noughts ahead of other figures, and "-0", are not written for any integer.
-    if str(integer) != text:
+    integer = integer_of(text, MAX_FIGURES)
+    if integer is None:
         raise BadText()
     return integer
+
+
+def integer_of(text, most):
+    """Return the integer of which text is the decimal, None if it is none, or has more than most figures."""
+    figures = text.removeprefix("-")
+    # isdigit alone would take figures of other scripts.
+    if len(figures) > most or not (figures.isascii() and figures.isdigit()):
+        return None
+    integer = int(text)
+    # Noughts ahead of other figures, and "-0", are not written for any integer.
+    return integer if str(integer) == text else None

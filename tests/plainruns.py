@@ -5,7 +5,7 @@ from itertools import chain as joined
 from itertools import combinations, product
 
 from straylanes.programs import result
-from straylanes.runs import strayed_words
+from straylanes.runs import strayed_words, strayers, strays_error
 from tests import plain
 
 
@@ -51,6 +51,20 @@ def are_told(machine, program, book):
             if came.setdefault(word, value) != value:
                 return False
     return True
+
+
+def is_paper(machine, program, book, value):
+    """Tell whether value, two pairs of inputs and strays, is a paper; it is told by running both runs."""
+    (one, strays), (other, other_strays) = value
+    for inputs, row in value:
+        lows = [step[1:] for step in program if step[0] == "in"]
+        assert isinstance(inputs, tuple) and len(inputs) == len(lows)
+        assert all(low <= number <= high for number, (low, high) in zip(inputs, lows))
+        assert strays_error(machine, program, row) is None
+        if not plain.lets(book, strayers(row)):
+            return False
+    words = [strayed_words(machine, program, inputs, row)[-1] for inputs, row in value]
+    return result(program, one) != result(program, other) and words[0] == words[1]
 
 
 def faces(machine, program, inputs, lane, units):

@@ -46,3 +46,22 @@ def runs_by(seed, many):
         program = program_by(chance) if turn % 5 else GREAT
         runs.append((machine, program, inputs_by(chance, program), strays_by(chance, machine, program)))
     return runs
+
+
+def of_inputs(*counts):
+    """Return a program with a step for each of counts, so many inputs in it, and their sum at the end."""
+    steps = [("in", 0, count - 1) for count in counts]
+    for place in range(1, len(counts)):
+        steps.append(("sum", len(steps) - 1 if place > 1 else 0, place))
+    return tuple(steps)
+
+
+def few_inputs(chance, most, longest):
+    """Return a program with at most so many tuples of inputs."""
+    while True:
+        program = program_by(chance, longest)
+        many = 1
+        for step in program:
+            many *= step[2] - step[1] + 1 if step[0] == "in" else 1
+        if many <= most:
+            return program

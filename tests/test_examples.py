@@ -274,6 +274,75 @@ True
 ((None,), (20,))
 >>> sure_numbers(machine, (first,), 0)
 raises NoLot()
+
+# J2
+>>> from straylanes.stocks import cheapest, least_more, outdoes, stock_error
+>>> stock = ((7, 2), (8, 1), (9, 3), (11, 4), (12, 1))
+>>> [stock_error(value) for value in (stock, ((2, 0),), (), list(stock), stock * 2, ((7, 2), (1, 2)), ((7, 2), (8, 1000)), ((7, True),), ((7, 2, 3),))]
+[None, None, 'form', 'form', 'form', ('item', 1), ('item', 1), ('item', 0), ('item', 0)]
+
+# J3
+>>> cheapest(stock, 50, 1), cheapest(stock, 70, 1), cheapest(stock, 73, 1)
+((10, (0, 1, 2, 3)), (11, (0, 1, 2, 3, 4)), None)
+>>> cheapest(stock, 50, 0) in ((3, (0, 1)), (3, (0, 4))), cheapest(stock, 1, 2), cheapest(stock, 8, 2), cheapest(stock, 7, 2)
+(True, (2, (1, 4)), None, (11, (0, 1, 2, 3, 4)))
+
+# J4
+>>> outdoes((7, 11, 13), (7, 8, 9)), outdoes((7, 8, 9), (7, 11, 13)), outdoes((2, 3, 5, 7), (6, 35)), outdoes((7,), (2, 2)), outdoes((7,), (2, 2, 2))
+(True, False, True, True, False)
+>>> outdoes((5, 6, 7), (4, 4, 4, 300)), outdoes((4, 4, 4, 300), (5, 6, 7)), outdoes((6, 6), (6, 6)), outdoes((6, 6), (6,)), outdoes((6,), (6, 6))
+(False, False, True, True, True)
+
+# J5
+>>> least_more((7, 8, 9), 50, 1), least_more((7, 8, 9), 57, 1), least_more((7, 8, 9), 1001, 0)
+(11, None, 5)
+>>> least_more((7,), 200, 0), least_more((7,), 1400, 0), least_more((7,), 1401, 0), least_more((7, 11, 13), 7, 1), least_more((2,), 1, 2), least_more((7,) * 10, 1, 0)
+(29, 200, None, 2, 2, None)
+
+# K5
+>>> from straylanes.benches import Bench
+>>> b, three = Bench(), (("in", 0, 6), ("is", 3), ("times", 0, 1))
+>>> [b.keep("rail", (7, 11, 13)), b.keep("three", three), len(b), list(b), b["rail"], b.version]
+[1, 2, 2, ['rail', 'three'], (7, 11, 13), 2]
+>>> [b.reach_of("rail", (1, 1, 0)), b.reach_of("rail", (0, 1, 0)), b.told("rail", "three", 1), b.reach_of("rail", (1, 1, 0)), b.made]
+[7, 77, True, 7, 3]
+>>> [b.lane_put("rail", 5), b.reach_of("rail", (1, 1, 0)), b.undo(), b.reach_of("rail", (1, 1, 0)), b.made]
+[3, 35, 2, 7, 4]
+>>> [b.step_put("three", ("sum", 2, 2)), b.told("rail", "three", 1), b.step_taken("three"), b["three"] == three, b.made]
+[3, True, 4, True, 5]
+>>> b.lane_put("rail", 1)
+raises BadMachine(('modulus', 3))
+>>> b.step_put("three", ("sum", 0, 3))
+raises BadProgram(('step', 3))
+>>> b.told("three", "rail", 1)
+raises Unfit()
+>>> b.reach_of("rail", (1, 1, 4))
+raises BadBook((2, 'form'))
+>>> b.batch((("drop", "rail"), ("lane_put", "rail", 5)))
+raises Rejected(1)
+
+# K6
+>>> from straylanes.logs import bench_behind, log_text, read_log
+>>> log_text(b.log[1:]), log_text((("batch", ()),))
+('(keep,three,((in,0,6),(is,3),(times,0,1)))\n(step_put,three,(sum,2,2))\n(step_taken,three)\n', '(batch,())\n')
+>>> read_log(log_text(b.log)) == b.log, bench_behind(b.log) == b, read_log("(drop,rail)\n(drop,r")
+(True, True, (('drop', 'rail'),))
+>>> read_log("(drop,rail)\n(drop,07)\n")
+raises BadLog(1)
+>>> bench_behind((("drop", "rail"),))
+raises BadLog(0)
+
+# K7
+>>> from straylanes.shells import Shell
+>>> s = Shell()
+>>> [s.say("machine rail 7 11 13"), s.say("program three in 0 6; is 3; times 0 1"), s.say("names"), s.say("show three"), s.say("run three 4")]
+['version 1', 'version 2', 'rail three', 'program in 0 6; is 3; times 0 1', '12']
+>>> [s.say("reach rail 1 1 0"), s.say("told rail three 1"), s.say("tell rail 0 6 1 3 5 3"), s.say("tell rail 0 100 0 3 5 3"), s.say("made")]
+['7', 'yes', '3', 'error Strayed', '2']
+>>> [s.say("step three sum 2 2"), s.say("unstep three"), s.say("lane rail 1"), s.say("lane three 5"), s.say("undo"), s.say("redo"), s.say("redo")]
+['version 3', 'version 4', 'error BadMachine', 'error Unfit', 'version 3', 'version 4', 'error NothingToRedo']
+>>> [s.say("machine rail 7 x"), s.say("machine rail"), s.say("lane rail 05"), s.say("show four"), s.say("run three 7"), s.say("drop "), s.say(7)]
+['error BadText', 'what', 'what', 'error NoName', 'error Unfit', 'what', 'what']
 """
 
 

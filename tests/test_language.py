@@ -72,6 +72,21 @@ INTERFACE = {
         "sure_numbers": ("machine", "ledger", "book"), "sure_strayers": ("machine", "ledger", "book"),
         "sure_sound": ("machine", "ledger", "book"),
     },
+    "stocks": {
+        "stock_error": ("value",), "cheapest": ("stock", "many", "t"), "outdoes": ("one", "other"),
+        "least_more": ("machine", "many", "t"),
+    },
+    "logs": {"log_text": ("edits",), "read_log": ("value",), "bench_behind": ("edits",)},
+}
+# The methods of each class, with their arguments; those without names are called by signs alone.
+CLASSES = {
+    ("benches", "Bench"): {
+        "keep": ("name", "thing"), "drop": ("name",), "lane_put": ("name", "modulus"), "lane_taken": ("name", "lane"),
+        "step_put": ("name", "step"), "step_taken": ("name",), "batch": ("edits",), "reach_of": ("name", "guard"),
+        "told": ("name", "other", "book"), "undo": (), "redo": (), "at": ("version",), "copy": (), "attempt": ("work",),
+        "__len__": (), "__iter__": (), "__contains__": None, "__getitem__": None, "__eq__": None, "__ne__": None,
+    },
+    ("shells", "Shell"): {"say": ("line",)},
 }
 
 BUILTINS = set("""len range enumerate zip min max sum abs sorted reversed int str bool list tuple dict set isinstance
@@ -80,8 +95,9 @@ BUILTINS = set("""len range enumerate zip min max sum abs sorted reversed int st
 METHODS = set("""append clear copy count endswith extend find get index insert isalnum isalpha isdigit islower isspace
     isupper items join keys ljust lower lstrip partition pop remove replace reverse rfind rjust rpartition rsplit
     rstrip setdefault split splitlines startswith strip update upper values zfill bit_length isascii removeprefix
-    removesuffix sort""".split())
-LIBRARY = {"math": {"gcd", "lcm", "isqrt", "comb"}, "itertools": {"product", "combinations", "permutations"}}
+    removesuffix""".split())
+# Of itertools nothing: a Bench is iterated over and has __len__ (L2).
+LIBRARY = {"math": {"gcd", "lcm", "isqrt", "comb", "perm", "factorial"}}
 BARRED_NAMES = set("""register mro elements open input law version_info with_traceback add_note attrgetter breakpoint
     compile copyright credits delattr dir eval exec exit gc getattr globals hasattr help id importlib license locals
     methodcaller os quit setattr super type vars sys""".split())
@@ -96,6 +112,16 @@ def nodes():
     for stem, tree in TREES.items():
         for node in ast.walk(tree):
             yield f"{stem}:{getattr(node, 'lineno', 0)}", node
+
+
+def is_class_name(node):
+    """Tell whether node is type(x).__name__, as L8 lets it."""
+    return (isinstance(node, ast.Attribute) and node.attr == "__name__" and isinstance(node.value, ast.Call)
+            and isinstance(node.value.func, ast.Name) and node.value.func.id == "type"
+            and len(node.value.args) == 1 and isinstance(node.value.args[0], ast.Name))
+
+
+TYPES_LET = [node.value.func for _, node in nodes() if is_class_name(node)]
 
 
 def bound_names():
@@ -140,6 +166,8 @@ class FilesTest(unittest.TestCase):
 
     def test_barred_words(self):
         for where, node in nodes():
+            if node in TYPES_LET:
+                continue
             for field in ("id", "attr", "name", "arg", "module", "value"):
                 word = getattr(node, field, None)
                 if isinstance(word, str):
@@ -176,7 +204,7 @@ class CodeTest(unittest.TestCase):
         for where, name in bound_names():
             self.assertNotIn(name, BARRED_NAMES, where)
             self.assertNotIn(name, dir(builtins), where)
-            self.assertRegex(name, r"\A([A-Za-z][A-Za-z0-9_]*|_|__[a-z]+__)\Z", where)
+            self.assertRegex(name, r"\A(_?[A-Za-z][A-Za-z0-9_]*|_|__[a-z]+__)\Z", where)
         for stem, tree in TREES.items():
             heads = {node.name for node in tree.body if isinstance(node, ast.ClassDef)}
             heads |= {name for _, name in imports(tree)}
@@ -188,7 +216,7 @@ class CodeTest(unittest.TestCase):
     def test_builtins_and_methods(self):
         own = {node.name for _, node in nodes() if isinstance(node, ast.FunctionDef)}
         for where, node in nodes():
-            if isinstance(node, ast.Name) and node.id in dir(builtins):
+            if isinstance(node, ast.Name) and node.id in dir(builtins) and node not in TYPES_LET:
                 self.assertIn(node.id, BUILTINS, where)
             if isinstance(node, ast.Call) and isinstance(node.func, ast.Attribute):
                 self.assertIn(node.func.attr, METHODS | own, where)
@@ -217,6 +245,49 @@ class InterfaceTest(unittest.TestCase):
                     self.assertTrue(inspect.isfunction(function))
                     self.assertEqual(function.__module__, "straylanes." + stem)
                     self.assertEqual(tuple(inspect.signature(function).parameters), arguments)
+
+    def test_each_method_stands_in_its_class_with_its_arguments(self):
+        for (stem, name), methods in CLASSES.items():
+            kind = getattr(import_module("straylanes." + stem), name)
+            self.assertEqual(kind.__module__, "straylanes." + stem)
+            for method, arguments in methods.items():
+                with self.subTest(f"{stem}.{name}.{method}"):
+                    function = vars(kind)[method]
+                    self.assertTrue(inspect.isfunction(function))
+                    if arguments is not None:
+                        self.assertEqual(tuple(inspect.signature(function).parameters), ("self", *arguments))
+
+    def test_properties_have_no_setters(self):
+        kind = import_module("straylanes.benches").Bench
+        for name in ("shelf", "version", "log", "made"):
+            self.assertIsInstance(vars(kind)[name], property)
+            self.assertIsNone(vars(kind)[name].fset)
+
+
+class OperatorTest(unittest.TestCase):
+    """What L5 asks for since Bench has operators and properties."""
+
+    def test_they_change_nothing(self):
+        for where, node in nodes():
+            if not isinstance(node, ast.FunctionDef) or node.name == "__init__":
+                continue
+            kinds = [decorator.id for decorator in node.decorator_list]
+            self.assertIn(kinds, ([], ["property"]), where)
+            if kinds or node.name.startswith("__"):
+                body = [part for row in node.body for part in ast.walk(row)]
+                self.assertFalse([part for part in body if isinstance(part, (ast.Assign, ast.AugAssign, ast.Delete))], where)
+
+    def test_reversed_and_sort(self):
+        for where, node in nodes():
+            if isinstance(node, ast.Call) and isinstance(node.func, ast.Name) and node.func.id == "reversed":
+                self.assertIn(getattr(getattr(node.args[0], "func", None), "id", None), ("list", "tuple", "sorted", "range"), where)
+            if isinstance(node, ast.Attribute):
+                self.assertNotEqual(node.attr, "sort", where)
+
+    def test_errors_that_are_caught_are_own_ones(self):
+        for where, node in nodes():
+            if isinstance(node, ast.ExceptHandler):
+                self.assertIn(node.type.id, top_names(TREES["errors"]), where)
 
 
 if __name__ == "__main__":

@@ -7,14 +7,17 @@ import time
 import unittest
 from random import Random
 
+from straylanes.benches import Bench
 from straylanes.errors import LaneError
 from straylanes.euclid import euclid_tell
 from straylanes.guards import bears, reach, strength, weakest
 from straylanes.ledgers import fitting_lots, sure_numbers, sure_sound, sure_strayers
+from straylanes.logs import bench_behind, log_text, read_log
 from straylanes.machines import rests_of
 from straylanes.mixups import mix_up
 from straylanes.paces import fewest, stops, stops_hold
 from straylanes.results import mixed_runs, results, told_for_all
+from straylanes.stocks import cheapest, least_more, outdoes
 from straylanes.tellings import candidates, nearest, suspects, tell
 from straylanes.units import faces, told_from, unit_runs
 from straylanes.works import work_told
@@ -118,6 +121,45 @@ class QuicknessTest(unittest.TestCase):
                 for book in (5, 2, FIVES, MOST, 8):
                     for function in (fitting_lots, sure_numbers, sure_strayers, sure_sound):
                         self.tells(function, machine, runs, book)
+        self.within(20)
+
+    def test_stocks_of_eight_places(self):
+        for machine in TEN:
+            stock = tuple((modulus, 100 + place) for place, modulus in enumerate(machine[:8]))
+            for t in range(9):
+                for many in (1, 1000, 10 ** 15, 10 ** 30):
+                    cheapest(stock, many, t)
+                    least_more(machine[:9], many, t)
+            for other in TEN:
+                outdoes(machine, other)
+        self.within(20)
+
+    def test_benches_of_forty_edits(self):
+        steps = (("in", -TOP, TOP),) * 29
+        for _ in range(20):
+            bench = Bench()
+            bench.keep("ten", GREAT_PRIMES)
+            for version in range(2, 41):
+                self.assertEqual(bench.batch((("keep", "a", steps), ("step_put", "a", ("is", TOP)), ("drop", "a")) * 4), version)
+            behind = bench_behind(read_log(log_text(bench.log)))
+            self.assertEqual((behind, behind.log), (bench, bench.log))
+            for _ in range(40):
+                bench.undo()
+            for _ in range(40):
+                bench.redo()
+        self.within(30)
+
+    def test_asks_of_ten_lanes(self):
+        bench = Bench()
+        for place, machine in enumerate(TEN):
+            bench.keep("abcdef"[place], machine)
+        bench.keep("wide", (("in", 0, 1999), ("is", 10 ** 40 + 1), ("times", 0, 1)))
+        for _ in range(30):
+            for name in "abcdef"[:len(TEN)]:
+                for book in (2, 3, FIVES, MOST):
+                    bench.reach_of(name, (book, FIVES, book))
+                    bench.told(name, "wide", book)
+        self.assertEqual(bench.made, 8 * len(TEN))
         self.within(20)
 
 

@@ -7,35 +7,16 @@ from random import Random
 from straylanes.guards import bears
 from straylanes.programs import inputs_error, result
 from straylanes.results import mixed_runs, mixed_runs_hold, results, told_for_all
-from straylanes.runs import strayed_words, strayers, strays_error
+from straylanes.runs import strays_error
 from tests import plain, plainruns
 from tests.lanesamples import FIVES, GREAT_PRIMES, MOST, PRIMES, SMALL, TOP, book_by, lot_books
-from tests.samples import program_by
+from tests.samples import few_inputs, of_inputs
 from tests.support import LaneTest, ODD_VALUES, Outcome
 
 SQUARE = (("in", 0, 2), ("times", 0, 0))
 SIX = (("in", 0, 1), ("is", 6), ("times", 0, 1))
 NAMED = {"machine": (2, 3, 5), "program": SQUARE, "book": 1}
 PAPER = (((0,), ((1, 1, 1),)), ((2,), ((2, 1, 0),)))
-
-
-def of_inputs(*counts):
-    """Return a program with a step for each of counts, so many inputs in it, and their sum at the end."""
-    steps = [("in", 0, count - 1) for count in counts]
-    for place in range(1, len(counts)):
-        steps.append(("sum", len(steps) - 1 if place > 1 else 0, place))
-    return tuple(steps)
-
-
-def few_inputs(chance, most, longest):
-    """Return a program with at most so many tuples of inputs."""
-    while True:
-        program = program_by(chance, longest)
-        many = 1
-        for step in program:
-            many *= step[2] - step[1] + 1 if step[0] == "in" else 1
-        if many <= most:
-            return program
 
 
 class ResultsTest(LaneTest):
@@ -85,7 +66,7 @@ class ToldTest(LaneTest):
         paper = self.tell(mixed_runs, **named)
         self.assertIs(paper is None, told, (named, paper))
         if paper is not None:
-            self.assertTrue(is_paper(machine, program, book, paper), (named, paper))
+            self.assertTrue(plainruns.is_paper(machine, program, book, paper), (named, paper))
             self.assert_same(self.tell(mixed_runs_hold, **named, value=paper), True)
 
     def test_told_ones(self):
@@ -148,20 +129,6 @@ class ToldTest(LaneTest):
         self.assertGreater(borne, 100)
 
 
-def is_paper(machine, program, book, value):
-    """Tell whether value, two pairs of inputs and strays, is a paper; it is told by running both runs."""
-    (one, strays), (other, other_strays) = value
-    for inputs, row in value:
-        lows = [step[1:] for step in program if step[0] == "in"]
-        assert isinstance(inputs, tuple) and len(inputs) == len(lows)
-        assert all(low <= number <= high for number, (low, high) in zip(inputs, lows))
-        assert strays_error(machine, program, row) is None
-        if not plain.lets(book, strayers(row)):
-            return False
-    words = [strayed_words(machine, program, inputs, row)[-1] for inputs, row in value]
-    return result(program, one) != result(program, other) and words[0] == words[1]
-
-
 def is_well_made(value):
     """Tell whether value is made of two pairs of inputs and strays of NAMED."""
     return isinstance(value, tuple) and len(value) == 2 and all(
@@ -190,7 +157,7 @@ class HoldTest(LaneTest):
                            ((one, ((value, 1, 1),)), other), ((one, ((1, value, 1),)), other),
                            ((one, strays, value), other), (*PAPER, value)):
                 # An odd value may be just what can stand there.
-                told = repr(value) in ("0", "1") and is_well_made(turned) and is_paper(**NAMED, value=turned)
+                told = repr(value) in ("0", "1") and is_well_made(turned) and plainruns.is_paper(**NAMED, value=turned)
                 self.assert_same(self.holds(turned), told)
 
     def test_one_thing_turned(self):
@@ -246,7 +213,7 @@ class HoldTest(LaneTest):
                 places = [(lane, at) for lane in range(len(machine)) for at in range(len(program))]
                 chosen = sorted(chance.sample(places, min(len(places), chance.randint(0, 3))))
                 runs.append((chance.choice(inputs), tuple((lane, at, chance.randrange(machine[lane])) for lane, at in chosen)))
-            told = is_paper(machine, program, book, tuple(runs))
+            told = plainruns.is_paper(machine, program, book, tuple(runs))
             self.assert_same(self.holds(tuple(runs), machine=machine, program=program, book=book), told)
             seen[told] += 1
         self.assertGreater(min(seen.values()), 60, seen)

@@ -8,9 +8,8 @@ from straylanes.runs import lane_words
 from straylanes.units import faces, told_from, unit_runs
 from tests import plainruns
 from tests.lanesamples import FIVES, GREAT_PRIMES, MOST, PRIMES, TOP, book_by
-from tests.samples import program_by
+from tests.samples import few_inputs, of_inputs, program_by
 from tests.support import LaneTest
-from tests.test_results import few_inputs, is_paper, of_inputs
 
 EVEN = (("in", 0, 1), ("is", 0), ("is", 2), ("times", 1, 2), ("sum", 0, 3))
 SQUARE = (("in", 0, 2), ("times", 0, 0))
@@ -18,6 +17,16 @@ SQUARE = (("in", 0, 2), ("times", 0, 0))
 
 def units_by(chance, program, most):
     return tuple(sorted(chance.sample(range(len(program)), chance.randint(0, min(most, len(program))))))
+
+
+def powers(first, second):
+    """Return a program of one input: for 1 it comes to 0, for 0 to the sum of two fourth powers.
+
+    These are of what the steps 1 and 2, which are 0, are off first and second.
+    """
+    return (("in", 0, 1), ("is", 0), ("is", 0), ("is", first), ("less", 1, 3), ("times", 4, 4), ("times", 5, 5),
+            ("is", second), ("less", 2, 7), ("times", 8, 8), ("times", 9, 9), ("sum", 6, 10), ("times", 0, 11),
+            ("less", 11, 12))
 
 
 class FacesTest(LaneTest):
@@ -77,6 +86,16 @@ class FacesTest(LaneTest):
         self.assert_same(self.faces((2999,), program, (3,), 0, (0,)), tuple(range(2999)))
         self.assert_same(self.faces((54,), program, (3,), 0, (0, 1)), tuple(range(0, 54, 2)))
 
+    def test_one_row_of_rests_alone(self):
+        # By 5 the fourth power is 1 of all but 0: the sum is 0 for just one rest at each of both units.
+        for first in range(5):
+            for second in range(5):
+                program = powers(first, second)
+                told = tuple(sorted(plainruns.faces((5,), program, (0,), 0, (1, 2))))
+                self.assert_same(self.faces((5,), program, (0,), 0, (1, 2)), told)
+                self.assertEqual(told, (0, 1, 2))
+                self.assert_same(self.faces((5,), program, (1,), 0, (1, 2)), (0,))
+
     def test_more_units_have_more_faces(self):
         chance = Random(222)
         for _ in range(200):
@@ -100,7 +119,7 @@ class ToldFromTest(LaneTest):
         paper = self.tell(unit_runs, **named)
         self.assertIs(paper is None, told, (named, paper))
         if paper is not None:
-            self.assertTrue(is_paper(machine, program, book, paper), (named, paper))
+            self.assertTrue(plainruns.is_paper(machine, program, book, paper), (named, paper))
             self.assertTrue(mixed_runs_hold(machine, program, book, paper))
             self.assertLessEqual({step for _, strays in paper for _, step, _ in strays}, set(units))
 
@@ -148,6 +167,15 @@ class ToldFromTest(LaneTest):
         self.check((5, 3), squares, ((0,), (1,)), (1,), True)
         paper = unit_runs((5,), squares, 1, (1,))
         self.assertTrue(all(len(strays) == 1 for _, strays in paper), paper)
+
+    def test_one_row_of_rests_alone(self):
+        for first in range(1, 5):
+            for second in range(1, 5):
+                self.check((5,), powers(first, second), 1, (1, 2), False)
+                (one, strays), (other, other_strays) = sorted(unit_runs((5,), powers(first, second), 1, (1, 2)))
+                self.assert_same((one, strays, other), ((0,), ((0, 1, first), (0, 2, second)), (1,)))
+                self.check((5,), powers(first, second), 1, (1,), True)
+                self.check((5,), powers(first, second), 1, (2,), True)
 
     def test_with_the_last_step_it_is_told_for_all(self):
         chance, seen = Random(224), {True: 0, False: 0}
